@@ -336,8 +336,8 @@ func TestCountsAsNought(t *testing.T) {
 // TestGreatest: problems of as many rows and numbers as may be.
 func TestGreatest(t *testing.T) {
 	r := rand.New(rand.NewSource(56))
-	for _, make := range []func(*rand.Rand, int, int, int) (api.LP, api.Answer){makeOptimal, makeInfeasible, makeUnbounded} {
-		p, a := make(r, api.MaxLP, api.MaxLP, 3)
+	for _, made := range []func(*rand.Rand, int, int, int) (api.LP, api.Answer){makeOptimal, makeInfeasible, makeUnbounded} {
+		p, a := made(r, api.MaxLP, api.MaxLP, 3)
 		expectHolds(t, "5.2", p, a, true)
 		last := api.MaxLP - 1
 		p.B[last] = rat.Sub(p.B[last], rat.Of(1000000000))
