@@ -57,7 +57,7 @@ func findAll(p api.LP) found {
 	return f
 }
 
-// TestOneKind: of all small problems no two kinds of answers hold, V is one, and no point that is Within has more.
+// TestOneKind: of small problems (all of up to six cells, of those of more one in 29) no two kinds of answers hold, V is one, and no point that is Within has more.
 func TestOneKind(t *testing.T) {
 	seen := map[int]int{}
 	for n := range 3 {
